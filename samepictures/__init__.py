@@ -1,0 +1,1 @@
+"""What drawings paint at every point of the plane."""

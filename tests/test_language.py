@@ -1,0 +1,203 @@
+"""The package as a whole: its interface, and the rules of the language that can be seen in its files."""
+
+import ast
+import builtins
+import importlib
+import inspect
+import unittest
+from pathlib import Path
+
+PACKAGE = Path(__file__).resolve().parent.parent / "samepictures"
+
+INTERFACE = {
+    "drawings": {
+        "is_shape": ["value"], "is_layer": ["value"], "is_drawing": ["value"], "count_points": ["drawing"],
+    },
+    "texts": {"format_drawing": ["drawing"], "parse_drawing": ["text"]},
+    "seeing": {"painted": ["drawing", "point"]},
+}
+
+LIBRARY = {
+    "heapq": {"heappush", "heappop", "heapify", "heapreplace", "heappushpop"},
+    "math": {"gcd", "lcm", "isqrt", "comb", "perm", "factorial"},
+    "itertools": {
+        "product", "combinations", "permutations", "chain", "accumulate", "pairwise", "islice", "zip_longest",
+    },
+    "collections": {"defaultdict", "deque"},
+}
+
+BUILTINS = set("""
+    len range enumerate zip min max sum abs sorted reversed int str bool bytes list tuple dict set frozenset isinstance
+    ord repr any all divmod map iter next type super property staticmethod classmethod ValueError TypeError KeyError
+    IndexError LookupError ZeroDivisionError RuntimeError NotImplementedError StopIteration NotImplemented object
+""".split())
+
+METHODS = set("""
+    append clear copy count endswith extend find get index insert isalnum isalpha isdigit islower isspace isupper items
+    join keys ljust lower lstrip partition pop remove replace reverse rfind rjust rpartition rsplit rstrip setdefault
+    split splitlines startswith strip update upper values zfill bit_length removeprefix removesuffix isascii isdecimal
+    sort add discard popleft appendleft
+""".split())
+
+BARRED = set("""
+    register mro elements open input law version_info with_traceback add_note attrgetter breakpoint builtins compile
+    copyright credits delattr dir eval exec exit gc globals help id importlib license locals methodcaller os quit vars
+    sys typing enum dataclass namedtuple
+""".split())
+
+NODES_NOT_ALLOWED = (
+    ast.Div, ast.AsyncFunctionDef, ast.Global, ast.Import, ast.Await, ast.MatMult, ast.AnnAssign, ast.Try,
+)
+
+
+def read_files():
+    """Return the pairs of a file of the package and its text."""
+    return [(path, path.read_text(encoding="utf-8")) for path in sorted(PACKAGE.glob("*.py"))]
+
+
+def names_bound(tree):
+    """Return the names that are bound anywhere, as pairs of a name and a line."""
+    found = []
+    for node in ast.walk(tree):
+        if isinstance(node, (ast.FunctionDef, ast.ClassDef)):
+            found.append((node.name, node.lineno))
+        elif isinstance(node, ast.arg):
+            found.append((node.arg, node.lineno))
+        elif isinstance(node, ast.Name) and isinstance(node.ctx, ast.Store):
+            found.append((node.id, node.lineno))
+    return found
+
+
+def names_imported(tree):
+    """Return the set of the names that the file imports."""
+    return {alias.name for node in tree.body if isinstance(node, ast.ImportFrom) for alias in node.names}
+
+
+class InterfaceTest(unittest.TestCase):
+    def test_functions_are_defined_in_their_files(self):
+        for module, functions in INTERFACE.items():
+            found = importlib.import_module(f"samepictures.{module}")
+            for name, parameters in functions.items():
+                function = getattr(found, name)
+                self.assertTrue(inspect.isfunction(function), name)
+                self.assertEqual(function.__module__, f"samepictures.{module}")
+                self.assertEqual(list(inspect.signature(function).parameters), parameters, name)
+
+    def test_package_defines_no_names(self):
+        package = importlib.import_module("samepictures")
+        tree = ast.parse((PACKAGE / "__init__.py").read_text(encoding="utf-8"))
+        self.assertEqual(names_bound(tree), [])
+        self.assertTrue(package.__doc__)
+
+
+class LanguageTest(unittest.TestCase):
+    def test_files(self):
+        others = [path.name for path in PACKAGE.iterdir() if path.suffix != ".py" and path.name != "__pycache__"]
+        self.assertEqual(others, [])
+        for path, _ in read_files():
+            self.assertRegex(path.stem, r"^[a-z_]+$")
+            self.assertNotIn(path.stem, dir(builtins))
+
+    def test_sizes_and_characters(self):
+        for path, text in read_files():
+            lines = text.split("\n")
+            self.assertLessEqual(len(lines), 399, path)
+            self.assertEqual(text[-1:], "\n", path)
+            for k, line in enumerate(lines):
+                self.assertLessEqual(len(line), 120, (path, k + 1))
+                self.assertTrue(all(" " <= sign <= "~" for sign in line), (path, k + 1))
+                self.assertEqual(line, line.rstrip(), (path, k + 1))
+            for node in ast.walk(ast.parse(text)):
+                if isinstance(node, ast.FunctionDef):
+                    self.assertLessEqual(node.end_lineno - node.lineno + 1, 40, (path, node.name))
+                    self.assertTrue(ast.get_docstring(node), (path, node.name))
+
+    def test_imports(self):
+        own = {path.stem for path, _ in read_files()}
+        for path, text in read_files():
+            tree = ast.parse(text)
+            for node in ast.walk(tree):
+                if not isinstance(node, ast.ImportFrom):
+                    continue
+                self.assertIn(node, tree.body)
+                self.assertEqual(node.level, 0)
+                self.assertTrue(all(alias.asname is None and alias.name != "*" for alias in node.names))
+                names = {alias.name for alias in node.names}
+                if node.module in LIBRARY:
+                    self.assertLessEqual(names, LIBRARY[node.module], path)
+                    continue
+                folder, _, stem = node.module.partition(".")
+                self.assertEqual(folder, "samepictures", path)
+                self.assertIn(stem, own - {"__init__"}, path)
+                there = ast.parse((PACKAGE / f"{stem}.py").read_text(encoding="utf-8"))
+                defined = {name for name, _ in names_bound(ast.Module(there.body, []))}
+                self.assertLessEqual(names, defined - names_imported(there), path)
+
+    def test_imports_are_used(self):
+        for path, text in read_files():
+            tree = ast.parse(text)
+            used = {node.id for node in ast.walk(tree) if isinstance(node, ast.Name)}
+            self.assertLessEqual(names_imported(tree), used, path)
+
+    def test_no_two_files_import_each_other(self):
+        graph = {}
+        for path, text in read_files():
+            modules = [node.module for node in ast.parse(text).body if isinstance(node, ast.ImportFrom)]
+            graph[path.stem] = [name.partition(".")[2] for name in modules if name.startswith("samepictures.")]
+        while graph:
+            free = [stem for stem, needed in graph.items() if not any(other in graph for other in needed)]
+            self.assertNotEqual(free, [], graph)
+            for stem in free:
+                del graph[stem]
+
+    def test_module_level(self):
+        for path, text in read_files():
+            body = ast.parse(text).body
+            self.assertTrue(isinstance(body[0], ast.Expr) and isinstance(body[0].value.value, str), path)
+            bound = []
+            for node in body[1:]:
+                self.assertIsInstance(node, (ast.ImportFrom, ast.FunctionDef, ast.ClassDef, ast.Assign), path)
+                if isinstance(node, ast.Assign):
+                    self.assertEqual([type(target) for target in node.targets], [ast.Name], (path, node.lineno))
+                    self.assertFalse([part for part in ast.walk(node.value) if isinstance(part, ast.Call)], path)
+                    bound.append(node.targets[0].id)
+                elif isinstance(node, ast.ImportFrom):
+                    bound.extend([alias.name for alias in node.names])
+                else:
+                    bound.append(node.name)
+            self.assertEqual(len(bound), len(set(bound)), path)
+
+    def test_names(self):
+        for path, text in read_files():
+            tree = ast.parse(text)
+            imported = names_imported(tree)
+            for name, line in names_bound(tree):
+                self.assertNotIn(name, dir(builtins), (path, line))
+                self.assertNotIn(name, BARRED, (path, line))
+                self.assertNotIn(name, imported, (path, line))
+                self.assertTrue(name == "_" or not name.startswith("_"), (path, line))
+
+    def test_builtins_and_methods(self):
+        for path, text in read_files():
+            tree = ast.parse(text)
+            for node in ast.walk(tree):
+                if isinstance(node, ast.Name) and node.id in dir(builtins):
+                    self.assertIn(node.id, BUILTINS, (path, node.lineno))
+                if isinstance(node, ast.Attribute):
+                    self.assertIn(node.attr, METHODS, (path, node.lineno))
+
+    def test_statements_and_values(self):
+        for path, text in read_files():
+            for node in ast.walk(ast.parse(text)):
+                place = (path, getattr(node, "lineno", 0))
+                self.assertNotIsInstance(node, NODES_NOT_ALLOWED, place)
+                if isinstance(node, ast.Constant):
+                    self.assertNotIsInstance(node.value, (float, complex), place)
+                if isinstance(node, (ast.FunctionDef, ast.ClassDef)):
+                    self.assertEqual(node.decorator_list, [], place)
+                if isinstance(node, ast.Compare) and any(isinstance(op, (ast.Is, ast.IsNot)) for op in node.ops):
+                    self.assertIsInstance(node.comparators[0], ast.Constant, place)
+
+
+if __name__ == "__main__":
+    unittest.main()
