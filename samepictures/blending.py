@@ -1,8 +1,13 @@
-"""Values, and how they are laid over one another and weakened."""
+"""Values, and how they are laid over one another and weakened.
+
+An effect is a pair of a value that is laid over what lies below, and the fraction of what lies
+below that is still seen then.
+"""
 
 from samepictures.exact import lowest, plus, rest_of, times
 
 NOTHING = ((0, 1), (0, 1), (0, 1), (0, 1))
+ALL = (1, 1)
 
 
 def filled(colour, opacity):
@@ -17,7 +22,14 @@ def weakened(value, fraction):
     return tuple([times(part, fraction) for part in value])
 
 
-def laid_over(upper, lower):
-    """Return what is seen if the upper value is laid over the lower one."""
-    through = weakened(lower, rest_of(upper[0]))
-    return tuple([plus(one, other) for one, other in zip(upper, through)])
+def laying(value):
+    """Return the effect of laying the value over what lies below."""
+    return (value, rest_of(value[0]))
+
+
+def laid(effects):
+    """Return the value that is seen where these effects, one after the other, come upon nothing."""
+    seen = NOTHING
+    for value, rest in effects:
+        seen = tuple([plus(one, other) for one, other in zip(value, weakened(seen, rest))])
+    return seen

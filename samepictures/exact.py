@@ -48,3 +48,62 @@ def times(one, other):
 def rest_of(fraction):
     """Return 1 minus the fraction."""
     return lowest(fraction[1] - fraction[0], fraction[1])
+
+
+def opposite(fraction):
+    """Return 0 minus the fraction."""
+    return (-fraction[0], fraction[1])
+
+
+def minus(one, other):
+    """Return the one fraction minus the other one."""
+    return plus(one, opposite(other))
+
+
+def quotient(one, other):
+    """Return the one fraction, divided by the other one, which is greater than 0."""
+    return lowest(one[0] * other[1], one[1] * other[0])
+
+
+def middle(one, other):
+    """Return the fraction in the middle of two."""
+    return lowest(one[0] * other[1] + other[0] * one[1], 2 * one[1] * other[1])
+
+
+def is_less(one, other):
+    """Return whether the one fraction is less than the other one."""
+    return one[0] * other[1] < other[0] * one[1]
+
+
+def total(fractions):
+    """Return the sum of the fractions.
+
+    Neighbours are added first, so that few of the sums have long bottoms.
+    """
+    while len(fractions) > 1:
+        pairs = [plus(fractions[k - 1], fractions[k]) for k in range(1, len(fractions), 2)]
+        fractions = pairs + fractions[2 * len(pairs):]
+    return fractions[0] if fractions else (0, 1)
+
+
+def scale_for(bottom):
+    """Return a number so great that unlike fractions with bottoms up to this one have unlike marks."""
+    return bottom * bottom + 1
+
+
+def mark(fraction, scale):
+    """Return an integer for the fraction; the marks at one scale are in the sequence of the fractions."""
+    return fraction[0] * scale // fraction[1]
+
+
+def ascending(rows):
+    """Return the list of the rows, tuples of fractions, in their sequence and without duplicates."""
+    bottoms = [fraction[1] for row in rows for fraction in row]
+    scale = scale_for(max(bottoms, default=1))
+    marked = {tuple([mark(fraction, scale) for fraction in row]): row for row in rows}
+    return [marked[marks] for marks in sorted(marked)]
+
+
+def least(fractions):
+    """Return the least one of the fractions."""
+    return ascending([(fraction,) for fraction in fractions])[0][0]

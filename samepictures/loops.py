@@ -1,14 +1,7 @@
-"""Loops and shapes around points: what lies on an edge, what lies inside.
+"""Loops and shapes around spots: what lies on an edge, what lies inside.
 
-A spot is a point as a tuple (x, y, scale) of integers: it lies at x / scale and y / scale, and
-the scale is greater than 0. So loops, whose points are pairs of integers, are met without fractions.
+The points of loops are pairs of integers here, so that spots are met without fractions.
 """
-
-
-def spot_of(point):
-    """Return the spot of a point."""
-    (x_top, x_bottom), (y_top, y_bottom) = point
-    return (x_top * y_bottom, y_top * x_bottom, x_bottom * y_bottom)
 
 
 def edges_of(loop):

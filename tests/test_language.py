@@ -15,6 +15,23 @@ INTERFACE = {
     },
     "texts": {"format_drawing": ["drawing"], "parse_drawing": ["text"]},
     "seeing": {"painted": ["drawing", "point"]},
+    "forms": {
+        "seen": ["drawing", "point"], "form": ["drawing"], "same": ["drawing", "other"], "is_blank": ["drawing"],
+        "parting": ["drawing", "other"],
+    },
+    "regions": {
+        "region": ["shape"], "is_region": ["value"], "united": ["one", "other"], "common": ["one", "other"],
+        "without": ["one", "other"], "either": ["one", "other"], "is_within": ["one", "other"], "area": ["some"],
+        "box": ["some"], "parts": ["some"], "count_holes": ["some"],
+    },
+    "changes": {
+        "values": ["drawing"], "where": ["drawing", "value"], "covered": ["drawing"], "areas": ["drawing"],
+        "changed": ["drawing", "other"], "changed_area": ["drawing", "other"], "changed_box": ["drawing", "other"],
+    },
+    "layers": {
+        "needless": ["drawing"], "thinned": ["drawing"], "exchangeable": ["drawing"], "sequences": ["drawing"],
+        "can_dissolve": ["drawing", "index"], "is_clip_needless": ["drawing", "index"],
+    },
 }
 
 LIBRARY = {
@@ -45,6 +62,13 @@ BARRED = set("""
     sys typing enum dataclass namedtuple
 """.split())
 
+SPECIAL = {"__init__"}
+
+NOT_MEMBERS = set("""
+    items keys values pop update append clear extend insert remove reverse setdefault sort args encode decode hex fromhex
+    format format_map mro as_integer_ratio bit_count conjugate from_bytes is_integer to_bytes
+""".split())
+
 NODES_NOT_ALLOWED = (
     ast.Div, ast.AsyncFunctionDef, ast.Global, ast.Import, ast.Await, ast.MatMult, ast.AnnAssign, ast.Try,
 )
@@ -65,6 +89,18 @@ def names_bound(tree):
             found.append((node.arg, node.lineno))
         elif isinstance(node, ast.Name) and isinstance(node.ctx, ast.Store):
             found.append((node.id, node.lineno))
+    return found
+
+
+def own_members():
+    """Return the set of the methods that classes of the package define and the attributes that they assign."""
+    found = set()
+    for _, text in read_files():
+        for node in ast.walk(ast.parse(text)):
+            if isinstance(node, ast.ClassDef):
+                found |= {part.name for part in node.body if isinstance(part, ast.FunctionDef)}
+            if isinstance(node, ast.Attribute) and isinstance(node.ctx, ast.Store):
+                found.add(node.attr)
     return found
 
 
@@ -110,7 +146,7 @@ class LanguageTest(unittest.TestCase):
             for node in ast.walk(ast.parse(text)):
                 if isinstance(node, ast.FunctionDef):
                     self.assertLessEqual(node.end_lineno - node.lineno + 1, 40, (path, node.name))
-                    self.assertTrue(ast.get_docstring(node), (path, node.name))
+                    self.assertTrue(node.name in SPECIAL or ast.get_docstring(node), (path, node.name))
 
     def test_imports(self):
         own = {path.stem for path, _ in read_files()}
@@ -175,16 +211,49 @@ class LanguageTest(unittest.TestCase):
                 self.assertNotIn(name, dir(builtins), (path, line))
                 self.assertNotIn(name, BARRED, (path, line))
                 self.assertNotIn(name, imported, (path, line))
-                self.assertTrue(name == "_" or not name.startswith("_"), (path, line))
+                self.assertTrue(name in {"_", *SPECIAL} or not name.startswith("_"), (path, line))
 
     def test_builtins_and_methods(self):
+        members = METHODS | own_members()
         for path, text in read_files():
             tree = ast.parse(text)
             for node in ast.walk(tree):
                 if isinstance(node, ast.Name) and node.id in dir(builtins):
                     self.assertIn(node.id, BUILTINS, (path, node.lineno))
                 if isinstance(node, ast.Attribute):
-                    self.assertIn(node.attr, METHODS, (path, node.lineno))
+                    self.assertIn(node.attr, members, (path, node.lineno))
+
+    def test_members_of_classes(self):
+        self.assertEqual(own_members() & NOT_MEMBERS, set())
+
+    def test_library_words_are_only_called(self):
+        for path, text in read_files():
+            tree = ast.parse(text)
+            words = {
+                alias.name for node in tree.body if isinstance(node, ast.ImportFrom) and node.module in LIBRARY
+                for alias in node.names
+            }
+            called = {node.func for node in ast.walk(tree) if isinstance(node, ast.Call)}
+            for node in ast.walk(tree):
+                if isinstance(node, ast.Name) and node.id in words:
+                    self.assertIn(node, called, (path, node.lineno))
+
+    def test_what_is_iterated_at_once(self):
+        takers = {"list", "tuple", "dict", "sorted", "sum", "any", "all", "enumerate", "zip", "min", "max"}
+        for path, text in read_files():
+            tree = ast.parse(text)
+            good = set()
+            for node in ast.walk(tree):
+                if isinstance(node, (ast.For, ast.comprehension)):
+                    good.add(node.iter)
+                if isinstance(node, ast.Call) and isinstance(node.func, ast.Name) and node.func.id in takers:
+                    good.update(node.args)
+            for node in ast.walk(tree):
+                if isinstance(node, ast.Call):
+                    name = getattr(node.func, "id", getattr(node.func, "attr", ""))
+                    if name in {"zip", "enumerate", "range", "items", "keys", "values", "permutations", "reversed"}:
+                        self.assertIn(node, good, (path, node.lineno))
+                self.assertNotIsInstance(node, (ast.GeneratorExp, ast.Yield, ast.Lambda), path)
 
     def test_statements_and_values(self):
         for path, text in read_files():

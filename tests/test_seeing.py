@@ -2,42 +2,15 @@
 
 import random
 import unittest
-from math import gcd
 
 from samepictures.errors import InvalidDrawing, InvalidPoint, OnEdge
 from samepictures.seeing import painted
 from tests.making import make_drawing
 from tests.model import model
-from tests.samples import FILL, NOTHING, Q, SAME, SQUARE, T, TRIANGLE, V, WRONG, fill_of, group
-
-FAR = 10 ** 30
-
-
-def number(top, bottom=1):
-    """Return a fraction in lowest terms."""
-    divisor = gcd(top, bottom)
-    return (top // divisor, bottom // divisor)
-
-
-def at(x, y, bottom=1):
-    """Return the point (x / bottom, y / bottom)."""
-    return (number(x, bottom), number(y, bottom))
-
-
-def fill(*loops, rule="odd", colour=(1, 0, 0), opacity=(1, 1)):
-    """Return a fill."""
-    return ("fill", (rule, loops), colour, opacity)
-
-
-def box(low, high):
-    """Return a square loop, counterclockwise."""
-    return ((low, low), (high, low), (high, high), (low, high))
-
-
-def solid(*colour):
-    """Return the value of a colour without anything seen through it."""
-    return ((1, 1), *[(part, 1) for part in colour])
-
+from tests.samples import (
+    FAR, FILL, NOTHING, Q, SAME, SQUARE, T, TRIANGLE, V, WRONG, WRONG_FRACTIONS, WRONG_POINTS, at, fill, fill_of, group, solid,
+    square,
+)
 
 RED = solid(1, 0, 0)
 
@@ -68,26 +41,26 @@ class PaintedTest(unittest.TestCase):
         self.assertEqual(painted(Q, ((FAR - 1, FAR), (FAR - 3, FAR - 1))), V)
 
     def test_rules(self):
-        twice = fill(box(0, 4), box(1, 3))
+        twice = fill(square(0, 4), square(1, 3))
         self.assertEqual(painted((twice,), at(1, 1, 2)), RED)
         self.assertEqual(painted((twice,), at(2, 2)), NOTHING)
-        turns = fill(box(0, 4), box(1, 3), rule="turns")
+        turns = fill(square(0, 4), square(1, 3), rule="turns")
         self.assertEqual(painted((turns,), at(2, 2)), RED)
-        against = fill(box(0, 4), box(1, 3)[::-1], rule="turns")
+        against = fill(square(0, 4), square(1, 3)[::-1], rule="turns")
         self.assertEqual(painted((against,), at(1, 1, 2)), RED)
         self.assertEqual(painted((against,), at(2, 2)), NOTHING)
-        back = fill(box(0, 4)[::-1], rule="turns")
+        back = fill(square(0, 4)[::-1], rule="turns")
         self.assertEqual(painted((back,), at(2, 2)), RED)
-        thrice = fill(box(0, 4), box(0, 4), box(0, 4))
+        thrice = fill(square(0, 4), square(0, 4), square(0, 4))
         self.assertEqual(painted((thrice,), at(2, 2)), RED)
 
     def test_loops_laid_twice(self):
         for rule, second, expected in (
-            ("odd", box(0, 4), NOTHING), ("turns", box(0, 4), RED),
-            ("odd", box(0, 4)[::-1], NOTHING), ("turns", box(0, 4)[::-1], NOTHING),
+            ("odd", square(0, 4), NOTHING), ("turns", square(0, 4), RED),
+            ("odd", square(0, 4)[::-1], NOTHING), ("turns", square(0, 4)[::-1], NOTHING),
         ):
-            self.assertEqual(painted((fill(box(0, 4), second, rule=rule),), at(2, 2)), expected)
-            around = (*box(0, 4), *second)
+            self.assertEqual(painted((fill(square(0, 4), second, rule=rule),), at(2, 2)), expected)
+            around = (*square(0, 4), *second)
             self.assertEqual(painted((fill(around, rule=rule),), at(2, 2)), expected)
 
     def test_a_loop_that_crosses_itself(self):
@@ -115,57 +88,57 @@ class PaintedTest(unittest.TestCase):
         self.assertEqual(painted((step,), at(-1, 2)), NOTHING)
 
     def test_fills(self):
-        half = fill(box(0, 4), colour=(2, 4, 9), opacity=(1, 2))
+        half = fill(square(0, 4), colour=(2, 4, 9), opacity=(1, 2))
         self.assertEqual(painted((half,), at(1, 1)), ((1, 2), (1, 1), (2, 1), (9, 2)))
-        same = fill(box(0, 4), colour=(2, 4, 9), opacity=(3, 6))
+        same = fill(square(0, 4), colour=(2, 4, 9), opacity=(3, 6))
         self.assertEqual(painted((same,), at(1, 1)), ((1, 2), (1, 1), (2, 1), (9, 2)))
-        upper = fill(box(2, 6), colour=(0, 3, 1), opacity=(1, 3))
+        upper = fill(square(2, 6), colour=(0, 3, 1), opacity=(1, 3))
         self.assertEqual(painted((half, upper), at(3, 3)), ((2, 3), (2, 3), (7, 3), (10, 3)))
         self.assertEqual(painted((upper, half), at(3, 3)), ((2, 3), (1, 1), (5, 2), (14, 3)))
         self.assertEqual(painted((half, upper), at(5, 5)), ((1, 3), (0, 1), (1, 1), (1, 3)))
-        cover = fill(box(0, 4), colour=(7, 8, 9))
+        cover = fill(square(0, 4), colour=(7, 8, 9))
         self.assertEqual(painted((half, cover), at(1, 1)), solid(7, 8, 9))
 
     def test_black_is_not_nothing(self):
-        black = fill(box(0, 4), colour=(0, 0, 0), opacity=(2, 3))
+        black = fill(square(0, 4), colour=(0, 0, 0), opacity=(2, 3))
         self.assertEqual(painted((black,), at(1, 1)), ((2, 3), (0, 1), (0, 1), (0, 1)))
 
     def test_rubs(self):
-        lower = fill(box(0, 4), colour=(3, 0, 9))
-        rub = ("rub", ("odd", (box(1, 6),)), (1, 3))
+        lower = fill(square(0, 4), colour=(3, 0, 9))
+        rub = ("rub", ("odd", (square(1, 6),)), (1, 3))
         self.assertEqual(painted((lower, rub), at(3, 3)), ((2, 3), (2, 1), (0, 1), (6, 1)))
         self.assertEqual(painted((lower, rub), at(1, 1, 2)), solid(3, 0, 9))
         self.assertEqual(painted((lower, rub), at(5, 5)), NOTHING)
         self.assertEqual(painted((rub, lower), at(3, 3)), solid(3, 0, 9))
-        whole = ("rub", ("odd", (box(1, 6),)), (6, 6))
+        whole = ("rub", ("odd", (square(1, 6),)), (6, 6))
         self.assertEqual(painted((lower, whole), at(3, 3)), NOTHING)
 
     def test_a_rub_stays_in_its_group(self):
-        lower = fill(box(0, 4), colour=(3, 0, 9))
-        rub = ("rub", ("odd", (box(0, 6),)), (1, 2))
+        lower = fill(square(0, 4), colour=(3, 0, 9))
+        rub = ("rub", ("odd", (square(0, 6),)), (1, 2))
         self.assertEqual(painted((lower, group((rub,))), at(3, 3)), solid(3, 0, 9))
-        inner = group((fill(box(0, 4), colour=(1, 1, 1)), rub))
+        inner = group((fill(square(0, 4), colour=(1, 1, 1)), rub))
         self.assertEqual(painted((lower, inner), at(3, 3)), ((1, 1), (2, 1), (1, 2), (5, 1)))
         self.assertEqual(painted((inner, rub), at(3, 3)), ((1, 4), (1, 4), (1, 4), (1, 4)))
-        deep = group((fill(box(0, 4), colour=(1, 1, 1)), group((rub,))))
+        deep = group((fill(square(0, 4), colour=(1, 1, 1)), group((rub,))))
         self.assertEqual(painted((lower, deep), at(3, 3)), solid(1, 1, 1))
 
     def test_opacity_of_groups(self):
-        two = (fill(box(0, 4), colour=(4, 0, 0)), fill(box(0, 2), colour=(0, 4, 0)))
+        two = (fill(square(0, 4), colour=(4, 0, 0)), fill(square(0, 2), colour=(0, 4, 0)))
         self.assertEqual(painted((group(two, (1, 2)),), at(1, 1)), ((1, 2), (0, 1), (2, 1), (0, 1)))
-        lower = fill(box(0, 4), colour=(8, 8, 8))
+        lower = fill(square(0, 4), colour=(8, 8, 8))
         self.assertEqual(painted((lower, group(two, (1, 2))), at(1, 1)), solid(4, 6, 4))
         self.assertEqual(painted((lower, group(two, (2, 4))), at(3, 3)), solid(6, 4, 4))
         nest = group((group(two, (1, 2)),), (1, 3))
         self.assertEqual(painted((nest,), at(1, 1)), ((1, 6), (0, 1), (2, 3), (0, 1)))
 
     def test_clips(self):
-        layers = (fill(box(0, 4), colour=(4, 0, 0)),)
-        drawing = (fill(box(0, 6), colour=(0, 0, 2)), group(layers, (1, 1), ("odd", (box(2, 5),))))
+        layers = (fill(square(0, 4), colour=(4, 0, 0)),)
+        drawing = (fill(square(0, 6), colour=(0, 0, 2)), group(layers, (1, 1), ("odd", (square(2, 5),))))
         self.assertEqual(painted(drawing, at(3, 3)), solid(4, 0, 0))
         self.assertEqual(painted(drawing, at(1, 1)), solid(0, 0, 2))
         self.assertEqual(painted(drawing, at(9, 9, 2)), solid(0, 0, 2))
-        ring = (group(layers, (1, 1), ("odd", (box(0, 5), box(1, 3)))),)
+        ring = (group(layers, (1, 1), ("odd", (square(0, 5), square(1, 3)))),)
         self.assertEqual(painted(ring, at(2, 2)), NOTHING)
         self.assertEqual(painted(ring, at(1, 1, 2)), solid(4, 0, 0))
 
@@ -183,8 +156,8 @@ class PaintedTest(unittest.TestCase):
                 painted((moved,), point)
 
     def test_a_matrix_leads_the_clip_too(self):
-        layers = (fill(box(0, 4), colour=(4, 0, 0)),)
-        moved = (group(layers, (1, 1), ("odd", (box(2, 5),)), (1, 0, 0, 1, 9, 9)),)
+        layers = (fill(square(0, 4), colour=(4, 0, 0)),)
+        moved = (group(layers, (1, 1), ("odd", (square(2, 5),)), (1, 0, 0, 1, 9, 9)),)
         self.assertEqual(painted(moved, at(12, 12)), solid(4, 0, 0))
         self.assertEqual(painted(moved, at(10, 10)), NOTHING)
         self.assertEqual(painted(moved, at(3, 3)), NOTHING)
@@ -192,7 +165,7 @@ class PaintedTest(unittest.TestCase):
     def test_mirrors_keep_what_is_inside(self):
         for matrix in ((-1, 0, 0, 1, 0, 0), (0, 1, 1, 0, 0, 0), (1, 0, 0, -1, 0, 0), (-1, 0, 0, -1, 0, 0)):
             for rule in ("odd", "turns"):
-                drawing = (group((fill(box(-2, 2), rule=rule),), matrix=matrix),)
+                drawing = (group((fill(square(-2, 2), rule=rule),), matrix=matrix),)
                 self.assertEqual(painted(drawing, at(1, 1)), RED)
 
     def test_matrices_of_groups_around(self):
@@ -260,34 +233,34 @@ class OnEdgeTest(unittest.TestCase):
         rub = ("rub", TRIANGLE, (1, 2))
         self.on((rub,), at(1, 0))
         self.on((FILL, rub), at(1, 1))
-        self.on((rub, fill(box(-3, 3))), at(1, 0))
-        self.assertEqual(painted((rub, fill(box(-3, 3))), at(-1, 0)), RED)
+        self.on((rub, fill(square(-3, 3))), at(1, 0))
+        self.assertEqual(painted((rub, fill(square(-3, 3))), at(-1, 0)), RED)
 
     def test_edges_of_clips(self):
-        clip = ("odd", (box(5, 7),))
+        clip = ("odd", (square(5, 7),))
         self.on((group((), (1, 1), clip),), at(5, 6))
         self.on((group(T, (1, 1), clip),), at(7, 7))
         self.on((group(T, (1, 1), clip),), at(1, 0))
         self.assertEqual(painted((group(T, (1, 1), clip),), at(1, 1, 2)), NOTHING)
 
     def test_edges_where_nothing_changes(self):
-        self.on((fill(box(0, 4), box(0, 4)),), at(0, 2))
+        self.on((fill(square(0, 4), square(0, 4)),), at(0, 2))
         self.on((fill(((0, 0), (4, 0), (0, 0), (4, 0))),), at(2, 0))
-        self.on((fill(box(0, 4), ((0, 2), (4, 2), (2, 2)), rule="turns"),), at(1, 2))
-        self.on((fill(box(0, 4), ((0, 2), (4, 2), (2, 2)), rule="turns"),), at(3, 2))
+        self.on((fill(square(0, 4), ((0, 2), (4, 2), (2, 2)), rule="turns"),), at(1, 2))
+        self.on((fill(square(0, 4), ((0, 2), (4, 2), (2, 2)), rule="turns"),), at(3, 2))
         self.on((fill(((0, 0), (4, 0), (2, 0)), opacity=(1, 2)),), at(1, 0))
 
     def test_hidden_edges(self):
-        self.on((FILL, fill(box(-5, 5))), at(1, 0))
-        self.on((fill(box(-5, 5)), fill(box(0, 1))), at(1, 1, 1))
-        self.on((FILL, ("rub", ("odd", (box(-5, 5),)), (1, 1))), at(1, 0))
+        self.on((FILL, fill(square(-5, 5))), at(1, 0))
+        self.on((fill(square(-5, 5)), fill(square(0, 1))), at(1, 1, 1))
+        self.on((FILL, ("rub", ("odd", (square(-5, 5),)), (1, 1))), at(1, 0))
 
     def test_edges_between_equal_points(self):
         dot = ((1, 1), (1, 1), (1, 1))
         self.assertEqual(painted((fill(dot),), at(1, 1)), NOTHING)
-        self.assertEqual(painted((fill(box(0, 4), dot),), at(1, 1)), RED)
-        self.assertEqual(painted((fill(box(0, 4)), ("rub", ("turns", (dot,)), (1, 1))), at(1, 1)), RED)
-        moved = (fill(box(0, 4)), group((fill(dot, colour=(5, 5, 5)),), (1, 1), ("odd", (dot,)), (2, 0, 0, 2, 0, 0)))
+        self.assertEqual(painted((fill(square(0, 4), dot),), at(1, 1)), RED)
+        self.assertEqual(painted((fill(square(0, 4)), ("rub", ("turns", (dot,)), (1, 1))), at(1, 1)), RED)
+        moved = (fill(square(0, 4)), group((fill(dot, colour=(5, 5, 5)),), (1, 1), ("odd", (dot,)), (2, 0, 0, 2, 0, 0)))
         self.assertEqual(painted(moved, at(2, 2)), RED)
         thick = ((0, 0), (0, 0), (4, 0), (4, 0), (4, 4), (4, 4), (0, 4), (0, 4))
         self.assertEqual(painted((fill(thick),), at(2, 2)), RED)
@@ -319,22 +292,13 @@ class ArgumentsTest(unittest.TestCase):
                     painted(value, point)
 
     def test_wrong_points(self):
-        wrong = [
-            *WRONG, (), (0, 0), (1, 1), ((0, 1),), ((0, 1), (0, 1), (0, 1)), [(0, 1), (0, 1)], ([0, 1], (0, 1)), ((0, 1), [0, 1]),
-            {(0, 1): 1, (1, 1): 1}, T, FILL, SQUARE, NOTHING,
-        ]
-        for value in wrong:
+        for value in WRONG_POINTS:
             for drawing in ((), T, Q):
                 with self.assertRaises(InvalidPoint):
                     painted(drawing, value)
 
     def test_wrong_fractions(self):
-        wrong = [
-            (2, 2), (0, 2), (2, 4), (-2, 4), (3, 9), (FAR, 2), (1, 0), (0, 0), (1, -1), (-1, -2), (0, -1), (FAR + 1, 1),
-            (-FAR - 1, 1), (1, FAR + 1), (10 ** 5000, 1), (1, 10 ** 5000), (True, 1), (1, True), (False, 1), (True, 2),
-            (1.0, 1), (1, 1.0), ("1", 1), (1, None), (1,), (), (1, 1, 1), 1, 0, 0.5, "1/2", None, [1, 2], {1: 1, 2: 2},
-        ]
-        for value in wrong:
+        for value in WRONG_FRACTIONS:
             for point in ((value, (5, 1)), ((5, 1), value), (value, value), ((0, 1), value)):
                 with self.assertRaises(InvalidPoint):
                     painted(T, point)
