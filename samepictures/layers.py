@@ -90,30 +90,23 @@ def check_group(drawing, index):
         raise InvalidIndex("this is not the number of a group")
 
 
-def stays_with(drawing, index, change):
-    """Return whether the picture stays with what the change makes of the group in its place."""
-    check_group(drawing, index)
-    stack, cells = stack_and_cells(drawing)
-    changed = (*stack[:index], *change(stack[index]), *stack[index + 1:])
+def stays_with(stack, cells, index, layers):
+    """Return whether the stack shows the same with these layers in the place of one of its layers."""
+    changed = (*stack[:index], *layers, *stack[index + 1:])
     return all([shown(changed, inside) == shown(stack, inside) for inside in cells])
-
-
-def dissolve(group):
-    """Return the layers of the group."""
-    return group[1]
-
-
-def take_clip(group):
-    """Return the group without its clip, as the only layer."""
-    kind, layers, opacity, _, matrix = group
-    return ((kind, layers, opacity, None, matrix),)
 
 
 def can_dissolve(drawing, index):
     """Return whether the picture stays if the layers of the group are laid in the place of the group."""
-    return stays_with(drawing, index, dissolve)
+    check_group(drawing, index)
+    stack, cells = stack_and_cells(drawing)
+    _, layers, _, _, _ = stack[index]
+    return stays_with(stack, cells, index, layers)
 
 
 def is_clip_needless(drawing, index):
     """Return whether the picture stays if the group has no clip."""
-    return stays_with(drawing, index, take_clip)
+    check_group(drawing, index)
+    stack, cells = stack_and_cells(drawing)
+    kind, layers, opacity, _, matrix = stack[index]
+    return stays_with(stack, cells, index, ((kind, layers, opacity, None, matrix),))

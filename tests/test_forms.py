@@ -192,6 +192,30 @@ class FormTest(unittest.TestCase):
         self.assertEqual(form(thin), model_form(thin))
         self.assertGreater(max(number[1] for edge in form(thin) for end in edge[:2] for number in end), 100)
 
+    def test_crossings_at_nearly_the_same_x(self):
+        # The first two edges cross 2 / 103563 to the left of where the other two do, but higher.
+        loops = (
+            ((8, 9), (-9, -5), (-9, -4)), ((-7, 8), (1, -5), (1, -4)),
+            ((7, 6), (-6, -8), (-5, -8)), ((-9, 2), (3, -9), (3, -8)),
+        )
+        for order in ((0, 1, 2, 3), (3, 1, 0, 2), (2, 3, 1, 0)):
+            drawing = tuple(fill(loops[k], colour=(k, 1, 0), opacity=(1, 2)) for k in order)
+            edges = form(drawing)
+            self.assertEqual(edges, model_form(drawing))
+            starts = [edge[0] for edge in edges]
+            self.assertLess(
+                starts.index(((-787, 333), (155, 333))), starts.index(((-735, 311), (-1270, 311))),
+            )
+
+    def test_many_crossings(self):
+        chance = random.Random(10)
+        for k in range(6):
+            loops = [tuple((chance.randint(-9, 9), chance.randint(-9, 9)) for _ in range(8)) for _ in range(5)]
+            matrix = [chance.choice((-2, 2)), chance.choice((-1, 1)), chance.choice((-1, 0, 1)), 2, 0, 0]
+            drawing = (group((fill(*loops[:2], opacity=(1, 2)), fill(loops[2], opacity=(1, 3))), (1, 1), None, tuple(matrix)),
+                       fill(*loops[3:], rule="turns", opacity=(1, 4)))
+            self.assertEqual(form(drawing), model_form(drawing))
+
     def test_many_edges(self):
         loop = tuple((9 if k % 2 else -9, k * 5 % 17 - 8) for k in range(8))
         other = tuple((k * 7 % 17 - 8, 9 if k % 2 else -9) for k in range(8))

@@ -54,6 +54,19 @@ def is_inside_region(some, x, y):
     return len(lefts) % 2 == 1
 
 
+def led(some, across, aside, up, slant, upward):
+    """Return the region with each point (x, y) led to (across * x + aside, up * y + slant * x + upward).
+
+    With across and up greater than 0, the edges stay in their sequence and keep their sides.
+    """
+    def lead(point):
+        x, y = numbers(point)
+        there = (across * x + aside, up * y + slant * x + upward)
+        return tuple([(part.numerator, part.denominator) for part in there])
+
+    return tuple([(lead(start), lead(end), left) for start, end, left in some])
+
+
 def squares(many):
     """Return a region of so many squares side by side."""
     found = []
@@ -220,7 +233,10 @@ class IsRegionTest(unittest.TestCase):
         self.assertEqual(area(most), (5000, 1))
         more = squares(1251)
         self.wrong(more)
-        self.wrong(most + odd(((-9, -9), (-8, -9), (-9, -8)))[:1])
+        corners = ((-9, 0), (-7, 0), (-7, 1), (-8, 2), (-9, 1))
+        self.assertIs(is_region(odd(corners) + squares(1248)), True)
+        self.assertEqual(len(odd(corners) + squares(1249)), 5001)
+        self.wrong(odd(corners) + squares(1249))
         # Results may have more edges than arguments.
         shifted = tuple([(at(x[0], y[0] + 1), at(z[0], w[0] + 1), left) for (x, y), (z, w), left in most])
         self.assertEqual(area(united(most, shifted)), (7500, 1))
@@ -228,7 +244,8 @@ class IsRegionTest(unittest.TestCase):
 
     def test_many_crossing_edges(self):
         chance = random.Random(13)
-        points = [(chance.randint(-99, 99), chance.randint(-99, 99)) for _ in range(2000)]
+        # There are millions of crossings: the first one tells that this is not a region.
+        points = [(chance.randint(-9999, 9999), chance.randint(-9999, 9999)) for _ in range(5000)]
         edges = sorted(sorted(pair) for pair in zip(points, points[1:] + points[:1]) if pair[0] != pair[1])
         self.assertIs(is_region(tuple([(at(*start), at(*end), True) for start, end in edges])), False)
 
@@ -310,6 +327,26 @@ class CombiningTest(unittest.TestCase):
             self.assertEqual(either(either(one, other), other), one)
             added = Fraction(*area(one)) + Fraction(*area(other))
             self.assertEqual(added, Fraction(*area(united(one, other))) + Fraction(*area(both)))
+
+    def test_great_numbers(self):
+        chance = random.Random(18)
+        great = 10 ** 7
+        for k in range(60):
+            maps = [Fraction(chance.randint(-great, great), chance.randint(1, great)) for _ in range(5)]
+            maps[0], maps[2] = abs(maps[0]) + Fraction(1, great), abs(maps[2]) + Fraction(1, great)
+            shapes = [make_shape(chance, (2, 3, 9)[k % 3]) for _ in range(2)]
+            if k % 2:
+                # All corners come close to one another, and lie far away.
+                maps[0], maps[1] = Fraction(1, great + 1), Fraction(great ** 2 + 1, 3)
+            one, other = [region(shape) for shape in shapes]
+            far_one, far_other = led(one, *maps), led(other, *maps)
+            self.assertTrue(is_region(far_one) and is_region(far_other))
+            for function in COMBINING:
+                self.assertEqual(function(far_one, far_other), led(function(one, other), *maps))
+            self.assertEqual(is_within(far_one, far_other), is_within(one, other))
+            self.assertEqual(parts(far_one), tuple([led(part, *maps) for part in parts(one)]))
+            self.assertEqual(count_holes(far_one), count_holes(one))
+            self.assertEqual(Fraction(*area(far_one)), Fraction(*area(one)) * maps[0] * maps[2])
 
     def test_is_within(self):
         chance = random.Random(16)
