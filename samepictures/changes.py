@@ -3,15 +3,19 @@
 from samepictures.blending import NOTHING
 from samepictures.drawings import check_drawing
 from samepictures.errors import InvalidNumber
-from samepictures.exact import ascending, is_fraction, opposite, total
+from samepictures.exact import are_fractions, ascending, opposite, total
 from samepictures.outlines import area_under, bound, measure, outline, trace
 from samepictures.surveys import survey, unlike
 
 
+def is_seen(value):
+    """Return whether the value is a tuple of four fractions, and not nothing."""
+    return are_fractions(value, 4) and value != NOTHING
+
+
 def check_value(value):
     """Raise InvalidNumber if the value is not a tuple of four fractions, or is nothing."""
-    is_value = isinstance(value, tuple) and len(value) == 4 and all([is_fraction(number) for number in value])
-    if not is_value or value == NOTHING:
+    if not is_seen(value):
         raise InvalidNumber("this is no value that can be seen")
 
 
@@ -48,17 +52,22 @@ def covered(drawing):
     return outline(sweep, sweep.stretches, [look != NOTHING for look in looks])
 
 
-def areas(drawing):
-    """Return the ascending tuple of the pairs of each value that the picture shows and its area."""
-    check_drawing(drawing)
-    sweep, (looks,) = survey([drawing])
+def list_areas(sweep, looks):
+    """Return the ascending list of the pairs of each value but nothing among the looks and its area."""
     shares = {look: [] for look in list_seen(looks)}
     shares[NOTHING] = []
     for start, end, left, right in trace(sweep.stretches, looks):
         share = area_under(sweep.point(start), sweep.point(end))
         shares[left].append(opposite(share))
         shares[right].append(share)
-    return tuple([(look, total(shares[look])) for look in list_seen(looks)])
+    return [(look, total(shares[look])) for look in list_seen(looks)]
+
+
+def areas(drawing):
+    """Return the ascending tuple of the pairs of each value that the picture shows and its area."""
+    check_drawing(drawing)
+    sweep, (looks,) = survey([drawing])
+    return tuple(list_areas(sweep, looks))
 
 
 def changed(drawing, other):

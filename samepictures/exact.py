@@ -24,9 +24,14 @@ def is_fraction(value):
     return are_whole(value, 2, -LIMIT, LIMIT) and value[1] > 0 and gcd(value[0], value[1]) == 1
 
 
+def are_fractions(value, many):
+    """Return whether the value is a tuple of so many fractions within the bounds of arguments."""
+    return isinstance(value, tuple) and len(value) == many and all([is_fraction(number) for number in value])
+
+
 def is_point(value):
     """Return whether the value is a point."""
-    return isinstance(value, tuple) and len(value) == 2 and all([is_fraction(number) for number in value])
+    return are_fractions(value, 2)
 
 
 def lowest(top, bottom):

@@ -3,7 +3,7 @@
 from samepictures.drawings import check_drawing
 from samepictures.errors import OnEdge
 from samepictures.lines import spot_of
-from samepictures.outlines import trace
+from samepictures.outlines import draw
 from samepictures.seeing import check_point
 from samepictures.surveys import survey, unlike
 from samepictures.uprights import is_on, tell_apart, value_at
@@ -12,8 +12,7 @@ from samepictures.uprights import is_on, tell_apart, value_at
 def draw_form(drawing):
     """Return the form of a drawing that has been checked."""
     sweep, (looks,) = survey([drawing])
-    edges = trace(sweep.stretches, looks)
-    return tuple([(sweep.point(start), sweep.point(end), left, right) for start, end, left, right in edges])
+    return draw(sweep, looks)
 
 
 def form(drawing):

@@ -9,11 +9,8 @@ from samepictures.lines import spot_of
 from samepictures.sweeping import sweep_over
 
 
-def trace(stretches, looks):
-    """Return the edges between unlike looks, as long as can be, in sequence.
-
-    An edge is a tuple (start, end, left, right) of the numbers of two places and two looks.
-    """
+def list_rows(stretches, looks):
+    """Return the edges between unlike looks, as long as can be, with the numbers of their lines ahead."""
     rows = []
     for line, start, end, above, below in sorted(stretches):
         left, right = looks[above], looks[below]
@@ -23,7 +20,21 @@ def trace(stretches, looks):
         if rows and rows[-1][0] == line and rows[-1][2] == start and rows[-1][3:] == (left, right):
             begin = rows.pop()[1]
         rows.append((line, begin, end, left, right))
-    return sorted([row[1:] for row in rows])
+    return rows
+
+
+def trace(stretches, looks):
+    """Return the edges between unlike looks, as long as can be, in sequence.
+
+    An edge is a tuple (start, end, left, right) of the numbers of two places and two looks.
+    """
+    return sorted([row[1:] for row in list_rows(stretches, looks)])
+
+
+def draw(sweep, looks):
+    """Return the form of a picture that has these looks."""
+    edges = trace(sweep.stretches, looks)
+    return tuple([(sweep.point(start), sweep.point(end), left, right) for start, end, left, right in edges])
 
 
 def outline(sweep, stretches, looks):

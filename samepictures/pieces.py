@@ -10,7 +10,14 @@ of a source and its turns, as of all segments together that lie there.
 """
 
 from samepictures.exact import mark, scale_for
-from samepictures.lines import line_through
+from samepictures.lines import is_ahead, line_through
+
+
+def segment_between(start, end, source):
+    """Return the segment of an edge that leads from the start to the end, with the inside on its left."""
+    if is_ahead(start, end):
+        return (start, end, source, 1)
+    return (end, start, source, -1)
 
 
 def place_of(spot, scale):

@@ -1,8 +1,9 @@
 """What drawings show in the cells into which all their edges together divide the plane."""
 
-from samepictures.lines import is_ahead, make_spot
+from samepictures.lines import make_spot
 from samepictures.loops import edges_of
 from samepictures.outlines import outline
+from samepictures.pieces import segment_between
 from samepictures.placing import SAME_PLACE, place_layers
 from samepictures.stacks import shown, stack_up
 from samepictures.sweeping import sweep_over
@@ -11,20 +12,27 @@ from samepictures.sweeping import sweep_over
 def segment_of(edge, source):
     """Return the segment of an edge of a loop."""
     start, end = [make_spot(x, y, 1) for x, y in edge]
-    if is_ahead(start, end):
-        return (start, end, source, 1)
-    return (end, start, source, -1)
+    return segment_between(start, end, source)
 
 
-def sweep_shapes(shapes):
-    """Return the sweep over the shapes, whose numbers are the sources."""
-    segments = [
+def list_segments(shapes):
+    """Return the list of the segments of the shapes, whose numbers are the sources."""
+    return [
         segment_of(edge, source)
         for source, (_, loops) in enumerate(shapes)
         for loop in loops
         for edge in edges_of(loop)
     ]
-    return sweep_over(segments, [rule == "odd" for rule, _ in shapes])
+
+
+def list_odd(shapes):
+    """Return for each shape whether only odd numbers of turns count."""
+    return [rule == "odd" for rule, _ in shapes]
+
+
+def sweep_shapes(shapes):
+    """Return the sweep over the shapes, whose numbers are the sources."""
+    return sweep_over(list_segments(shapes), list_odd(shapes))
 
 
 def insides(sweep):

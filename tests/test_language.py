@@ -32,6 +32,17 @@ INTERFACE = {
         "needless": ["drawing"], "thinned": ["drawing"], "exchangeable": ["drawing"], "sequences": ["drawing"],
         "can_dissolve": ["drawing", "index"], "is_clip_needless": ["drawing", "index"],
     },
+    "plans": {"plan": ["drawing"], "is_plan": ["value"], "plan_form": ["some"], "count_corners": ["some"]},
+    "moves": {
+        "turned_form": ["drawing", "turn"], "moves": ["drawing", "other"], "enlargement": ["drawing", "other"],
+    },
+    "measures": {"mean": ["drawing", "box"], "along": ["drawing", "level"]},
+}
+
+DESK = {
+    "__init__": ["self", "drawing"], "put": ["self", "index", "layer"], "take": ["self", "index"],
+    "exchange": ["self", "index"], "undo": ["self"], "redo": ["self"], "drawing": ["self"], "__len__": ["self"],
+    "__eq__": ["self", "other"],
 }
 
 LIBRARY = {
@@ -62,7 +73,7 @@ BARRED = set("""
     sys typing enum dataclass namedtuple
 """.split())
 
-SPECIAL = {"__init__"}
+SPECIAL = {"__init__", "__eq__", "__len__"}
 
 NOT_MEMBERS = set("""
     items keys values pop update append clear extend insert remove reverse setdefault sort args encode decode hex fromhex
@@ -92,6 +103,12 @@ def names_bound(tree):
     return found
 
 
+def is_set(node):
+    """Return whether the expression is plainly a set."""
+    called = getattr(getattr(node, "func", None), "id", "")
+    return isinstance(node, (ast.Set, ast.SetComp)) or called == "set"
+
+
 def own_members():
     """Return the set of the methods that classes of the package define and the attributes that they assign."""
     found = set()
@@ -118,6 +135,15 @@ class InterfaceTest(unittest.TestCase):
                 self.assertTrue(inspect.isfunction(function), name)
                 self.assertEqual(function.__module__, f"samepictures.{module}")
                 self.assertEqual(list(inspect.signature(function).parameters), parameters, name)
+
+    def test_desk_is_defined_in_its_file(self):
+        found = importlib.import_module("samepictures.desks")
+        self.assertTrue(inspect.isclass(found.Desk))
+        self.assertEqual(found.Desk.__module__, "samepictures.desks")
+        for name, parameters in DESK.items():
+            method = vars(found.Desk)[name]
+            self.assertTrue(inspect.isfunction(method), name)
+            self.assertEqual(list(inspect.signature(method).parameters), parameters, name)
 
     def test_package_defines_no_names(self):
         package = importlib.import_module("samepictures")
@@ -225,6 +251,38 @@ class LanguageTest(unittest.TestCase):
 
     def test_members_of_classes(self):
         self.assertEqual(own_members() & NOT_MEMBERS, set())
+
+    def test_methods_are_no_attributes(self):
+        for path, text in read_files():
+            for node in ast.walk(ast.parse(text)):
+                if isinstance(node, ast.ClassDef):
+                    methods = [part.name for part in node.body if isinstance(part, ast.FunctionDef)]
+                    assigned = {
+                        part.attr for part in ast.walk(node) if isinstance(part, ast.Attribute)
+                        and isinstance(part.ctx, ast.Store)
+                    }
+                    self.assertEqual(assigned & set(methods), set(), path)
+                    self.assertEqual(len(methods), len(set(methods)), path)
+
+    def test_stored_sets(self):
+        allowed = {"add", "discard"}
+        for path, text in read_files():
+            for function in ast.walk(ast.parse(text)):
+                if not isinstance(function, ast.FunctionDef):
+                    continue
+                assigned = [node for node in ast.walk(function) if isinstance(node, ast.Assign)]
+                names = {node.targets[0].id for node in assigned if is_set(node.value)}
+                good = set()
+                for node in ast.walk(function):
+                    if isinstance(node, ast.Attribute) and node.attr in allowed:
+                        good.add(node.value)
+                    if isinstance(node, ast.Compare) and isinstance(node.ops[0], (ast.In, ast.NotIn)):
+                        good.add(node.comparators[0])
+                    if isinstance(node, ast.Assign):
+                        good.update(node.targets)
+                for node in ast.walk(function):
+                    if isinstance(node, ast.Name) and node.id in names:
+                        self.assertIn(node, good, (path, node.lineno))
 
     def test_library_words_are_only_called(self):
         for path, text in read_files():
