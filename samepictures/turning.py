@@ -41,8 +41,9 @@ def turn_form(edges, turn):
     turned = {}
     for edge in edges:
         start, end, left, right = turn_edge(edge, turn)
-        turned[(*start, *end)] = (start, end, left, right)
-    return tuple([turned[ends] for ends in ascending(list(turned))])
+        fractions = (*start, *end)
+        turned[fractions] = (start, end, left, right)
+    return tuple([turned[row] for row in ascending(list(turned))])
 
 
 def put_point(point, factor, shift):

@@ -109,6 +109,28 @@ def is_set(node):
     return isinstance(node, (ast.Set, ast.SetComp)) or called == "set"
 
 
+def list_stars(tree):
+    """Return the parts of the tree that are a star over a list or the like, or two stars over a dict."""
+    found = []
+    for node in ast.walk(tree):
+        is_spread = isinstance(node, ast.Dict) and None in node.keys
+        is_passed = isinstance(node, ast.keyword) and node.arg is None
+        if isinstance(node, ast.Starred) or is_spread or is_passed:
+            found.append(node)
+    return found
+
+
+def misplaced_stars(tree):
+    """Return the ascending list of the lines where a star stands in the brackets of an index or in a set literal."""
+    found = set()
+    for node in ast.walk(tree):
+        if isinstance(node, ast.Subscript):
+            found |= {star.lineno for star in list_stars(node.slice)}
+        if isinstance(node, ast.Set):
+            found |= {item.lineno for item in node.elts if isinstance(item, ast.Starred)}
+    return sorted(found)
+
+
 def own_members():
     """Return the set of the methods that classes of the package define and the attributes that they assign."""
     found = set()
@@ -312,6 +334,33 @@ class LanguageTest(unittest.TestCase):
                     if name in {"zip", "enumerate", "range", "items", "keys", "values", "permutations", "reversed"}:
                         self.assertIn(node, good, (path, node.lineno))
                 self.assertNotIsInstance(node, (ast.GeneratorExp, ast.Yield, ast.Lambda), path)
+
+    def test_stars(self):
+        for path, text in read_files():
+            self.assertEqual(misplaced_stars(ast.parse(text)), [], path)
+
+    def test_misplaced_stars_are_found(self):
+        refused = (
+            "rows[*ends]", "rows[1, *ends]", "rows[(*start, *end)]", "rows[(*ends,)] = 1", "rows[(*ends,)] += 1",
+            "del rows[(*ends,)]", "rows[[*ends][0]]", "rows[max(*ends)]", "rows[:min(*ends)]", "rows[0][(1, (*ends,))]",
+            "rows[others[(*ends,)]]", "call(rows[(*ends,)])", "(*rows[(*ends,)], 1)", "rows[call(**names)]",
+            "rows[{**names}['a']]", "f'{rows[(*ends,)]}'", "[rows[(*each, 1)] for each in ends]", "{*ends}", "{1, *ends}",
+            "for rows[(*ends,)] in others: pass", "def told(some: tuple[*ends]): pass",
+            "class Box:\n def told(self): self.rows[(*self.ends,)] = 1", "rows[\n(*ends,)\n]",
+        )
+        for text in refused:
+            self.assertEqual(misplaced_stars(ast.parse(text)), [1 + text.count("\n", 0, text.find("*"))], text)
+        self.assertEqual(misplaced_stars(ast.parse("rows[(*a,)] = (*b,)\n\nrows[*c, *d]")), [1, 3])
+
+    def test_stars_in_their_places_are_left(self):
+        allowed = (
+            "(*start, *end)", "[*rows, 1]", "[*rows][0]", "(*rows, 1)[k]", "(*rows[:k], one, *rows[k + 1:])",
+            "call(*rows)[0]", "{**names, 'a': 1}", "{**names}['a']", "first, *rest = rows[0]", "*rest, rows[0] = others",
+            "for name, *rest in rows[k]: pass", "rows[2 * k]", "rows[2 ** k]", "rows[k * 2:k ** 2]", "{a * 2, a ** 2}",
+            "def told(*rest, **more): rest[0] * more[1]",
+        )
+        for text in allowed:
+            self.assertEqual(misplaced_stars(ast.parse(text)), [], text)
 
     def test_statements_and_values(self):
         for path, text in read_files():
